@@ -1527,22 +1527,28 @@ func TestOnTooShortMemories(t *testing.T) {
 	}
 }
 
-// P1: a slab that is full has no words that could be wrong: it tells so on any memory, and giving ends there, too.
+// P15.3, P1: a slab that is full has no words that could be wrong: its list is right on a memory that is too short, till a slot is given whose word can't be written.
 func TestFullOnTooShortMemories(t *testing.T) {
 	for class := range classSizes() {
 		x := made(t, 1024, class, counted(slotsIn(class))...)
-		for _, n := range []int{0, 1, 1024, 1030} {
+		first, second := x.p.address(0), x.p.address(1)
+		for _, n := range []int{0, 1, 1024, 1030, 1031, 1032, second, second + 7, second + 8, 2047} {
 			c, b := memory(t, n)
 			y := pair{x.s.On(c), c, x.p.clone()}
 			y.p.bytes = b
 			y.same(t)
-			y.apply(t, take(), some(3), give(1025), giveAll(), giveAll(7, 1024))
-			y.s.GiveAll(1024, x.p.address(1))
-			y.s.Give(1024)
-			y.s.Take()
-			sameBytes(t, c, b)
-			x.same(t)
+			y.apply(t, take(), some(3), give(1025), giveAll(), giveAll(7, first))
+			for _, list := range [][]int{{first}, {second}, {first, second}, {second, first}, {first, first}, {second, second}, {first, 7}, {second, 7}, {first, second, first}, {second, first, 7}} {
+				z := y.clone()
+				z.apply(t, giveAll(list...), take(), some(2), give(second), give(first), giveAll(), give(7))
+				z = y.clone()
+				for _, at := range list {
+					z.apply(t, give(at))
+				}
+			}
+			y.same(t)
 		}
+		x.same(t)
 	}
 }
 
